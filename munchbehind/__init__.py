@@ -1,0 +1,1 @@
+"""How much dearer is greedy instruction selection than the cheapest one?"""

@@ -1,0 +1,1 @@
+"""Words, and the trees that are written with them."""
