@@ -9,6 +9,32 @@ FUNCTIONS = {
         "is_integer": "(value)", "is_count": "(value)", "is_name": "(value)", "are_names": "(value)",
         "coprime": "(one, other)",
     },
+    "munchbehind.match.kinds": {
+        "leaves_at": "(book, pattern, tree, place)", "matching": "(book, tree, place)", "is_kind_form": "(book, value)",
+    },
+    "munchbehind.cover.covers": {
+        "is_cover": "(book, tree, value, *, start=None)", "cover_price": "(book, tree, cover, *, start=None)",
+        "tiles": "(book, tree, cover, *, start=None)", "cheapest": "(book, tree, *, start=None)",
+        "cheapest_price": "(book, tree, *, start=None)", "count_covers": "(book, tree, *, start=None)",
+        "each_cover": "(book, tree, *, start=None)", "cover_at": "(book, tree, number, *, start=None)",
+        "number_of_cover": "(book, tree, cover, *, start=None)", "chain_price": "(book, one, other)",
+    },
+    "munchbehind.cover.greedy": {
+        "pick": "(book, kind, nonterminal, *, careful=False)", "greedy": "(book, tree, *, careful=False, start=None)",
+        "stuck_at": "(book, tree, *, careful=False, start=None)",
+        "greedy_price": "(book, tree, *, careful=False, start=None)",
+        "excess": "(book, tree, *, careful=False, start=None)", "sides_of": "(book, tree, cover, *, start=None)",
+        "prices_at": "(book, tree, cover, *, start=None)",
+    },
+    "munchbehind.decide.stuck": {
+        "met_states": "(book, *, careful=False)", "is_never_stuck": "(book, *, careful=False)",
+        "stuck_tree": "(book, *, careful=False)", "stuck_paper": "(book, *, careful=False)",
+        "is_stuck_paper": "(book, value, *, careful=False)",
+    },
+    "munchbehind.decide.pumps": {
+        "is_pump": "(book, outer, loop, inner, *, careful=False)",
+        "loops_in": "(book, tree, cover, *, careful=False)", "cut_loop": "(book, tree, cover, pair, *, careful=False)",
+    },
 }
 CLASSES = {
     "munchbehind.base.trees": {
@@ -21,12 +47,57 @@ CLASSES = {
             "number_of": "(self, tree)",
         },
     },
+    "munchbehind.base.books": {
+        "Book": {
+            "__init__": "(self, operators, goal, rules)", "from_lines": "(*lines)", "rules_of": "(self, nonterminal)",
+            "with_rule": "(self, rule, *, at=None)", "without_rule": "(self, index)", "moved": "(self, index, to)",
+            "with_price": "(self, index, price)", "scaled": "(self, number)", "ordered": "(self, order)",
+            "largest_first": "(self)", "renamed": "(self, names)",
+        },
+    },
+    "munchbehind.match.kinds": {
+        "Kinds": {
+            "__init__": "(self, book)", "of_tree": "(self, tree)", "after": "(self, operator, *rest)",
+            "covered": "(self, kind)", "tree_of": "(self, kind)",
+        },
+    },
+    "munchbehind.decide.pairs": {
+        "Pairs": {
+            "__init__": "(self, book, *, careful=False)", "moves": "(self, state)", "tree_of": "(self, state)",
+            "along": "(self, tree, cover)",
+        },
+    },
+    "munchbehind.decide.pumps": {
+        "Pump": {
+            "__init__": "(self, book, outer, loop, inner, *, careful=False)", "tree": "(self, times)",
+            "greedy_price": "(self, times)", "cheapest_price": "(self, times)", "excess": "(self, times)",
+            "first_times": "(self, number)",
+        },
+    },
 }
-PROPERTIES = {("munchbehind.base.trees", "Operators"): ("arities", "names", "constants", "lines")}
-OPERATIONS = {("munchbehind.base.trees", "Operators"): ("__len__", "__contains__", "__iter__", "__eq__", "__str__")}
+PROPERTIES = {
+    ("munchbehind.base.trees", "Operators"): ("arities", "names", "constants", "lines"),
+    ("munchbehind.base.books", "Book"): ("operators", "goal", "rules", "nonterminals", "parts", "lines"),
+    ("munchbehind.match.kinds", "Kinds"): ("book", "kinds"),
+    ("munchbehind.decide.pairs", "Pairs"): ("book", "is_careful", "states", "starts"),
+    ("munchbehind.decide.pumps", "Pump"): (
+        "book", "outer", "loop", "inner", "is_careful", "side", "loop_prices", "rate",
+    ),
+}
+OPERATIONS = {
+    ("munchbehind.base.trees", "Operators"): ("__len__", "__contains__", "__iter__", "__eq__", "__str__"),
+    ("munchbehind.base.books", "Book"): ("__len__", "__iter__", "__eq__", "__str__"),
+    ("munchbehind.match.kinds", "Kinds"): ("__len__", "__contains__", "__iter__", "__eq__", "__str__"),
+    ("munchbehind.decide.pairs", "Pairs"): ("__len__", "__contains__", "__iter__", "__eq__", "__str__"),
+    ("munchbehind.decide.pumps", "Pump"): ("__eq__", "__str__"),
+}
 CONSTANTS = {
     "munchbehind.base.words": {"MAX_LETTERS": 8, "MAX_FIGURES": 60},
     "munchbehind.base.trees": {"MAX_OPERATORS": 8, "MAX_TREE": 5000, "MAX_SIZE": 200, "HOLE": "_"},
+    "munchbehind.base.books": {"MAX_RULES": 12, "MAX_PATTERN": 7, "MAX_PRICE": 9, "MAX_NONTERMINALS": 6},
+    "munchbehind.match.kinds": {"MAX_KINDS": 60},
+    "munchbehind.decide.pairs": {"MAX_STATES": 600},
+    "munchbehind.decide.pumps": {"MAX_TIMES": 10 ** 18},
 }
 
 

@@ -2,8 +2,12 @@
 
 from itertools import product
 
+from munchbehind.base.books import Book
 from munchbehind.base.trees import Operators
+from munchbehind.decide.pairs import Pairs
+from munchbehind.decide.pumps import Pump
 from munchbehind.errors import InvalidNumber, ParseError
+from munchbehind.match.kinds import Kinds
 
 INTEGERS = (0, 1, 2, -1, -7, 8, 199, 200, 201, 5000, 10 ** 60 - 1, 1 - 10 ** 60)
 LONG_INTEGERS = (10 ** 60, -(10 ** 60), 10 ** 99, 1 - 10 ** 100)
@@ -22,12 +26,18 @@ def nested():
     return [
         (), ("c",), ("c", "c"), ("_",), (0,), (None,), ("c", 1), ((("c",),),), [], ["c"], [1, 2], {}, {"c": 0},
         {1: 2}, {None: ()}, {("c",): ["c"]}, ("p", ["c"], {}), deep, ({"a": [()]},), (True,), (0, 1),
+        ((), ()), ((0,), (0,)), ((0,), (True,)), (((0,), (0,)), ("r",), ("r",)), ("never", ()), ("stuck", ("c",)),
+        ("r", 0, ("c",)), (("r", 0, ("c",)),), (0, 2, 2, 3), ("_", "_"), (((0,), (0,)), ["r"], {}), ([0], [0]),
     ]
 
 
 def objects():
     """Objects of the package."""
-    return [Operators({"c": 0}), Operators({"c": 0, "p": 2, "s": 1}), ParseError(0), InvalidNumber(None)]
+    book = Book.from_lines("op c 0", "op s 1", "goal r", "rule r 1 s r", "rule r 0 c")
+    return [
+        Operators({"c": 0}), Operators({"c": 0, "p": 2, "s": 1}), ParseError(0), InvalidNumber(None), book, Kinds(book),
+        Pairs(book), Pump(book, ("_",), ("s", "_"), ("s", "c")),
+    ]
 
 
 def everything():

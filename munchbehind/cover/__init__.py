@@ -1,0 +1,1 @@
+"""Covers of single trees, the cheapest ones and those of the greedy selector."""

@@ -1,0 +1,158 @@
+"""Covers of a tree: their prices, their number, and their order."""
+
+from munchbehind.base.asked import check_book, side_of
+from munchbehind.base.words import is_count
+from munchbehind.cover.laid import lay, tiles_of
+from munchbehind.errors import InvalidNumber, NotCovered
+
+
+def is_cover(book, tree, value, *, start=None):
+    """Whether the value is a cover of the tree."""
+    return lay(book, tree, start).tiles(value) is not None
+
+
+def cover_price(book, tree, cover, *, start=None):
+    """The price of a cover."""
+    laid = lay(book, tree, start)
+    return laid.price(tiles_of(laid, cover))
+
+
+def tiles(book, tree, cover, *, start=None):
+    """The pairs (place, index of the rule) of a cover, in its order."""
+    return tuple(tiles_of(lay(book, tree, start), cover))
+
+
+def cheapest(book, tree, *, start=None):
+    """A cover with the least price."""
+    laid = lay(book, tree, start)
+    rows = laid.price_rows()
+    if laid.first not in rows[0]:
+        raise NotCovered(tree)
+    cover = []
+    waiting = [(laid.first, 0)]
+    while waiting:
+        side, place = waiting.pop()
+        row = rows[place]
+        ways = [(row[part] + price, rules, part) for rules, price, part in laid.numbered.least[side] if part in row]
+        _, rules, part = min(ways)
+        cover.extend(rules)
+        waiting.extend(laid.leaves(part, place)[::-1])
+    return tuple(cover)
+
+
+def cheapest_price(book, tree, *, start=None):
+    """The least price of a cover; None if there is none."""
+    laid = lay(book, tree, start)
+    return laid.price_rows()[0].get(laid.first)
+
+
+def count_covers(book, tree, *, start=None):
+    """The number of all covers."""
+    laid = lay(book, tree, start)
+    return laid.count_rows()[0].get(laid.first, 0)
+
+
+def each_cover(book, tree, *, start=None):
+    """Yields all covers, ascending."""
+    laid = lay(book, tree, start)
+    ready = laid.sets(True)
+    # What is done and what is to be done are rows of pairs, each with the next one in it.
+    waiting = [(None, ((laid.first, 0), None))]
+    while waiting:
+        done, ahead = waiting.pop()
+        if ahead is None:
+            yield told_rules(done)
+            continue
+        (side, place), behind = ahead
+        # The last one that is put in is taken first.
+        for rules, _, part in reversed(laid.numbered.ways[side]):
+            if ready[place] >> part & 1:
+                waiting.append(((rules, done), put_ahead(laid.leaves(part, place), behind)))
+
+
+def told_rules(done):
+    """The cover whose rules were told one row after the other, the last row first."""
+    rows = []
+    rest = done
+    while rest is not None:
+        rules, rest = rest
+        rows.append(rules)
+    return tuple([index for rules in reversed(rows) for index in rules])
+
+
+def put_ahead(leaves, behind):
+    """A row of pairs that begins with some leaves."""
+    row = behind
+    for leaf in reversed(leaves):
+        row = (leaf, row)
+    return row
+
+
+def cover_at(book, tree, number, *, start=None):
+    """The cover with a number among all covers, ascending."""
+    laid = lay(book, tree, start)
+    rows = laid.count_rows()
+    if not is_count(number) or number >= rows[0].get(laid.first, 0):
+        raise InvalidNumber(number)
+    cover = []
+    waiting = [(laid.first, 0, number)]
+    while waiting:
+        side, place, rest = waiting.pop()
+        rules, part, rest = way_at(laid.numbered.ways[side], rows[place], rest)
+        cover.extend(rules)
+        for low, at in reversed(laid.leaves(part, place)):
+            rest, share = divmod(rest, rows[at][low])
+            waiting.append((low, at, share))
+    return tuple(cover)
+
+
+def way_at(ways, row, number):
+    """The rules and the part of the way that the cover with a number begins with, and its number among these."""
+    at = 0
+    while number >= row.get(ways[at][2], 0):
+        number -= row.get(ways[at][2], 0)
+        at += 1
+    return ways[at][0], ways[at][2], number
+
+
+def number_of_cover(book, tree, cover, *, start=None):
+    """The number of a cover among all covers, ascending."""
+    laid = lay(book, tree, start)
+    found = tiles_of(laid, cover)
+    rows = laid.count_rows()
+    numbers = []
+    for place, rules in reversed(rules_by_places(found)):
+        part = laid.numbered.ruled[rules[-1]][2]
+        number = 0
+        for low, at in laid.leaves(part, place):
+            number = number * rows[at][low] + numbers.pop()
+        for told, _, other in laid.numbered.ways[laid.numbered.ruled[rules[0]][0]]:
+            if told < rules:
+                number += rows[place].get(other, 0)
+        numbers.append(number)
+    return numbers[0]
+
+
+def rules_by_places(found):
+    """The list of the pairs of a place and the rules that are used there, in the order of the cover."""
+    rows = {}
+    for place, index in found:
+        rows[place] = rows.get(place, ()) + (index,)
+    return [(place, rows[place]) for place in rows]
+
+
+def chain_price(book, one, other):
+    """The least price of chain rules that lead from a nonterminal to another one; None if there are none."""
+    check_book(book)
+    start, end = side_of(book, one), side_of(book, other)
+    numbered = book.numbered_sides()
+    prices = {start: 0}
+    waiting = [start]
+    while waiting:
+        side = waiting.pop()
+        for _, price, target in numbered.used[side]:
+            total = prices[side] + price
+            if numbered.below[target] is None and (target not in prices or total < prices[target]):
+                prices[target] = total
+                waiting.append(target)
+    return prices.get(end)

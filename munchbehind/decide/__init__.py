@@ -1,0 +1,1 @@
+"""What is true of all trees at once."""

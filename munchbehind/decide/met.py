@@ -1,0 +1,66 @@
+"""Where the greedy selector comes to in trees that have a cover from the goal."""
+
+from munchbehind.cover.greedy import chosen
+from munchbehind.match.kinds import kind_table
+
+
+class Met:
+    """The met states of a book and a mode, as pairs of the numbers of a kind and a side.
+
+    Choices tells for each of them the pair of the price and the part with which the greedy selector goes on,
+    None if it is stuck.
+    """
+
+    def __init__(self, book, careful):
+        self.table = kind_table(book)
+        self.numbered = self.table.numbered
+        self.goal_side = self.numbered.numbers[(book.goal,)]
+        self.lets = self.table.readies if careful else self.table.matches
+        self.choices = {}
+        self._find()
+
+    def covered_kinds(self):
+        """The list of the kinds of trees that have a cover from the goal, ascending."""
+        return [kind for kind, ready in enumerate(self.table.readies) if ready >> self.goal_side & 1]
+
+    def greedy_steps(self):
+        """The list of all steps that make trees which the greedy selector covers, by met states."""
+        steps = []
+        for node, choice in self.choices.items():
+            if choice is not None:
+                below = self.numbered.below[choice[1]]
+                for operator, kinds in self.table.steps[node[0]]:
+                    steps.append((node, operator, tuple(zip(kinds, below))))
+        return steps
+
+    def choice(self, node):
+        """The price and the part with which the greedy selector goes on in a state, None if it is stuck at its root.
+
+        Inside a part it has nothing to choose.
+        """
+        kind, side = node
+        if self.numbered.below[side] is not None:
+            return 0, side
+        way = chosen(self.numbered, side, self.lets[kind])
+        return None if way is None else way[1:]
+
+    def _find(self):
+        seen = [self._kinds_below(kind) for kind in range(len(self.table.spelled))]
+        waiting = [(kind, self.goal_side) for kind in self.covered_kinds()]
+        while waiting:
+            node = waiting.pop()
+            if node in self.choices:
+                continue
+            self.choices[node] = self.choice(node)
+            if self.choices[node] is not None:
+                below = self.numbered.below[self.choices[node][1]]
+                for kinds, side in zip(seen[node[0]], below):
+                    waiting.extend([(kind, side) for kind in kinds])
+
+    def _kinds_below(self, kind):
+        """The lists of the kinds of the subtrees of trees of a kind, from left to right."""
+        lists = [{}, {}]
+        for _, kinds in self.table.steps[kind]:
+            for found, low in zip(lists, kinds):
+                found[low] = True
+        return [sorted(found) for found in lists]

@@ -1,0 +1,114 @@
+"""Whether the greedy selector is ever stuck in a tree that has a cover."""
+
+from munchbehind.base.asked import check_book, check_careful
+from munchbehind.cover.greedy import greedy_tiles
+from munchbehind.cover.laid import Laid
+from munchbehind.decide.met import Met
+from munchbehind.match.kinds import is_kind_form
+from munchbehind.match.least import Least
+
+
+def met_asked(book, careful):
+    """What is met in the book and the mode that are asked for."""
+    check_book(book)
+    check_careful(careful)
+    return Met(book, careful)
+
+
+def spelled_states(met):
+    """The ascending tuple of all met states."""
+    kinds, sides = met.table.spelled, met.numbered.spelled
+    return tuple([(kinds[kind], sides[side]) for kind, side in sorted(met.choices)])
+
+
+def met_states(book, *, careful=False):
+    """All met states, ascending."""
+    return spelled_states(met_asked(book, careful))
+
+
+def is_met_never_stuck(met):
+    """Whether the greedy selector is stuck in no met state."""
+    return all([choice is not None for choice in met.choices.values()])
+
+
+def is_never_stuck(book, *, careful=False):
+    """Whether the greedy selector is stuck in no tree that has a cover from the goal."""
+    return is_met_never_stuck(met_asked(book, careful))
+
+
+def stuck_steps(met):
+    """The list of all steps that make trees of kinds, and trees of met states in which the selector is stuck.
+
+    Their nodes are kinds and met states.
+    """
+    steps = []
+    for kind, rows in enumerate(met.table.steps):
+        steps.extend([(kind, operator, kinds) for operator, kinds in rows])
+    for node, choice in met.choices.items():
+        for operator, kinds in met.table.steps[node[0]]:
+            if choice is None:
+                steps.append((node, operator, kinds))
+                continue
+            # It is enough that the selector is stuck in one of the subtrees.
+            for at, state in enumerate(zip(kinds, met.numbered.below[choice[1]])):
+                steps.append((node, operator, kinds[:at] + (state,) + kinds[at + 1:]))
+    return steps
+
+
+def least_stuck_tree(met):
+    """A tree with as few places as possible that has a cover, and in which the greedy selector is stuck, or None."""
+    if is_met_never_stuck(met):
+        return None
+    least = Least(stuck_steps(met))
+    nodes = [(kind, met.goal_side) for kind in met.covered_kinds()]
+    _, found = min([(least.sizes[node], node) for node in nodes if node in least.sizes])
+    return least.spelled_tree(found)
+
+
+def stuck_tree(book, *, careful=False):
+    """A tree with as few places as possible that has a cover, and in which the greedy selector is stuck, or None."""
+    return least_stuck_tree(met_asked(book, careful))
+
+
+def stuck_paper(book, *, careful=False):
+    """A paper about being stuck, the first form with just the met states."""
+    met = met_asked(book, careful)
+    tree = least_stuck_tree(met)
+    return ("never", spelled_states(met)) if tree is None else ("stuck", tree)
+
+
+def is_stuck_paper(book, value, *, careful=False):
+    """Whether the value is a paper about being stuck."""
+    met = met_asked(book, careful)
+    if not isinstance(value, tuple) or len(value) != 2:
+        return False
+    if value[0] == "never":
+        return are_never_stuck(book, met, value[1])
+    return value[0] == "stuck" and is_stuck_in(book, value[1], careful)
+
+
+def is_stuck_in(book, tree, careful):
+    """Whether the value is a tree that has a cover, and in which the greedy selector is stuck."""
+    if not book.operators.is_tree(tree):
+        return False
+    laid = Laid(book, tree, None)
+    return bool(laid.sets(True)[0] >> laid.first & 1) and greedy_tiles(laid, careful)[1] is not None
+
+
+def are_never_stuck(book, met, value):
+    """Whether the value is an ascending tuple of states, all met ones among them, and stuck in none."""
+    if not isinstance(value, tuple) or not all([is_state(book, met, state) for state in value]):
+        return False
+    kinds, sides = met.table.numbers, met.numbered.numbers
+    states = [(kinds[kind], sides[side]) for kind, side in value]
+    if not all([one < other for one, other in zip(states, states[1:])]):
+        return False
+    told = {state: True for state in states}
+    return all([state in told for state in met.choices]) and all([met.choice(state) is not None for state in states])
+
+
+def is_state(book, met, value):
+    """Whether the value is a pair of the kind of some tree and a side of the book."""
+    if not isinstance(value, tuple) or len(value) != 2 or not is_kind_form(book, value[0]):
+        return False
+    return value[0] in met.table.numbers and value[1] in met.numbered.spelled

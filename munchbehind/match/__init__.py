@@ -1,0 +1,1 @@
+"""Where patterns match, and the kinds of trees that follow from it."""
