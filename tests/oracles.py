@@ -194,6 +194,50 @@ class Truth:
             self._lay(tree, child, part[inner:end(part, self.arities, inner)], rest, sides, prices)
 
 
+    def leads(self, start):
+        """The patterns that begin with an operator to which chain rules, and another one, lead from a nonterminal."""
+        found, names = [], [start]
+        for name in names:
+            for told, _, pattern in self.rules:
+                if told == name and pattern[0] in self.arities:
+                    found.append(pattern)
+                elif told == name and pattern[0] not in names:
+                    names.append(pattern[0])
+        return found
+
+    def is_side_covered(self, tree, at, side):
+        leaves = self.leaves(side, tree, at)
+        return leaves is not None and all(self.is_covered(self.subtree(tree, low), leaf) for leaf, low in leaves)
+
+    def sides_of_covers(self, tree, start):
+        """A list of sets: the sides that covers have at each place."""
+        found = [set() for _ in tree]
+        waiting = [(0, (start,))] if self.is_covered(tree, start) else []
+        while waiting:
+            at, side = waiting.pop()
+            if side in found[at]:
+                continue
+            found[at].add(side)
+            parts = [side] if side[0] in self.arities else self.leads(side[0])
+            for part in parts:
+                if self.is_side_covered(tree, at, part):
+                    for inner, child in zip(below(part, self.arities, 0), below(tree, self.arities, at)):
+                        waiting.append((child, part[inner:end(part, self.arities, inner)]))
+        return found
+
+    def pair_states(self, tree, careful):
+        """The set of the pair states of a tree at all places, none if the greedy selector is stuck."""
+        steps = self.walk(tree, self.book.goal, careful)
+        if any(rules is None for _, _, rules in steps):
+            return set()
+        sides = self.sides_of_covers(tree, self.book.goal)
+        found = set()
+        for at, side, _ in steps:
+            kind = self.kind(self.subtree(tree, at))
+            found |= {(kind, side, other) for other in sides[at]}
+        return found
+
+
 def small_trees(book, most):
     """All trees of a book with at most so many places."""
     return [tree for size in range(1, most + 1) for tree in all_trees(book.operators.arities, size)]
@@ -259,4 +303,14 @@ SIXTY_ONE = Book.from_lines(
     "op c 0", "op p 2", "goal a", "rule d 2 p d b", "rule b 2 p p d a a", "rule b 2 c", "rule a 0 p p p d b b a",
     "rule d 3 p d d", "rule d 4 p a c", "rule d 4 p b c", "rule b 2 p d c", "rule a 4 p p d d b", "rule d 0 c",
     "rule a 2 c", "rule b 0 p p c d p a d",
+)
+
+# Books with just six hundred useful pair states of the blind selector, and one more.
+SIX_HUNDRED = Book.from_lines(
+    "op c 0", "op s 1", "goal a", "rule a 0 c", "rule b 0 c", "rule d 0 c", "rule d 1 s s s s a", "rule b 2 s s s d",
+    "rule a 0 s s b", "rule b 1 s s s s b",
+)
+ONE_MORE = Book.from_lines(
+    "op c 0", "op s 1", "goal a", "rule a 0 c", "rule b 0 c", "rule a 1 s s s s s s b", "rule b 2 s s s s s a",
+    "rule a 1 s s s s a", "rule a 0 s a", "rule b 1 s s s a",
 )
