@@ -186,7 +186,8 @@ class LinesTest(RefusedTest):
         wrong = (
             "", " ", "op", "goal", "rule", "goal r r", "r goal", "goal R", "goal 1", "goal _", "goal abcdefghi",
             "Goal r", "goals r", "rule r", "rule r 1", "rule 1 r c", "rule r c", "r rule 1 c", "rule r c 1",
-            "rule r 10 c", "rule r 01 c", "rule r -1 c", "rule r +1 c", "rule r 1.0 c", "rule r x c", "rule r one c", "rule r  c",
+            "rule r 10 c", "rule r 01 c", "rule r -1 c", "rule r +1 c", "rule r 1.0 c", "rule r x c", "rule r one c",
+            "rule r  c",
             "rule r 1 C", "rule r 1 _", "rule r 1 s 1", "rule R 1 c", "rule abcdefghi 1 c", "rule r 1 abcdefghi",
             "rule r 1" + " s" * 7 + " c", "rule r 1" + " s" * 20, "rules r 1 c", "op rule r 1 c", "goal rule r 1 c",
             "op a", "op a 3", "op a 0 0", "op 0 a", "rule r 1 c\n", "goal r\n", "\ngoal r", "rule r 1 c;",

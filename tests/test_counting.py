@@ -2,6 +2,7 @@
 
 import unittest
 from itertools import islice
+from random import Random
 
 from munchbehind.base.trees import Operators
 from munchbehind.errors import InvalidNumber, InvalidTree
@@ -174,6 +175,72 @@ class CountingTest(TimedTest):
         for tree in (("s",) * 200 + ("c",), ("p", "c") * 100 + ("c",), ("s",) * 4999 + ("c",), ("s",) * 5000 + ("c",)):
             with self.assertRaises(InvalidTree):
                 ops.number_of(tree)
+
+
+class AskedAgainTest(TimedTest):
+    """One object that is asked for many sizes, in any order and more than once."""
+
+    seconds = 25
+    mixtures = (
+        *BOOKS, EIGHT.arities, {"a": 0, "b": 0, "s": 1, "t": 1, "u": 1, "p": 2}, {"a": 0, "s": 1, "t": 1, "p": 2},
+        {"a": 0, "b": 0, "d": 0, "p": 2, "q": 2, "r": 2, "s": 1}, {"a": 0, "p": 2, "s": 1},
+    )
+
+    def orders(self):
+        mixed = [*range(1, 201), *range(1, 201, 3)]
+        Random(5).shuffle(mixed)
+        return (range(1, 201), range(200, 0, -1), mixed, [200, 1, 200, 3, 2, 200, 199, 1], [7, 7, 8, 8, 7])
+
+    def test_counts_in_any_order(self):
+        for arities in self.mixtures:
+            right = numbers_of_trees(arities, 200)
+            for order in self.orders():
+                ops = Operators(arities)
+                self.assertEqual([ops.count_trees(size) for size in order], [right[size] for size in order])
+                self.assertEqual([ops.count_trees(size) for size in range(1, 201)], right[1:])
+
+    def test_trees_and_numbers_in_any_order(self):
+        for arities in self.mixtures:
+            right = numbers_of_trees(arities, 200)
+            fresh = [size for size in (1, 2, 3, 5, 9, 10, 21, 60, 61, 130, 199, 200) if right[size]]
+            for order in (fresh, fresh[::-1], fresh[::2] + fresh[::-1] + fresh):
+                ops = Operators(arities)
+                for size in order:
+                    number = min(right[size], 10 ** 60) * 2 // 3
+                    tree = ops.tree_at(size, number)
+                    self.assertEqual((tree, number), (Operators(arities).tree_at(size, number), ops.number_of(tree)))
+                    self.assertEqual(Operators(arities).number_of(tree), number)
+                    self.assertEqual(next(ops.each_tree(size)), ops.tree_at(size, 0))
+
+    def test_a_generator_goes_on_while_others_are_asked(self):
+        ops = Operators({"c": 0, "v": 0, "p": 2, "s": 1})
+        told = ops.each_tree(6)
+        first = [next(told) for _ in range(5)]
+        ops.tree_at(200, 0)
+        ops.count_trees(150)
+        self.assertEqual(first + list(told), all_trees(ops.arities, 6))
+
+    def test_wrong_numbers(self):
+        ops = Operators({"c": 0, "v": 0, "p": 2})
+        for _ in range(2):
+            for size in (200, 5, 199, 3):
+                many = ops.count_trees(size)
+                for number in (-1, many if many < 10 ** 60 else 10 ** 60, None, True):
+                    with self.assertRaises(InvalidNumber) as caught:
+                        ops.tree_at(size, number)
+                    self.assertIs(caught.exception.value, number)
+
+    def test_many_questions(self):
+        # Twenty for each of many objects: counted anew at each question, they take far longer than is let.
+        for at in range(1500):
+            arities = {"c": 0, "v": 0, "p": 2, "abcdefgh"[at % 2]: at % 3, "x": 1} if at % 4 else {"c": 0, "v": 0, "p": 2}
+            ops = Operators(arities)
+            for size in (200, 199, 151, 90, 33):
+                many = ops.count_trees(size)
+                if many:
+                    self.assertEqual(ops.number_of(ops.tree_at(size, min(many, 10 ** 60) - 1)), min(many, 10 ** 60) - 1)
+                with self.assertRaises(InvalidNumber):
+                    ops.tree_at(size, 10 ** 60)
 
 
 if __name__ == "__main__":

@@ -51,6 +51,10 @@ class Operators:
         self._names = tuple(sorted(arities))
         self._arities = {name: arities[name] for name in self._names}
         self._lines = tuple([f"op {name} {arities[name]}" for name in self._names])
+        told = list(arities.values())
+        self._many = told.count(0), told.count(1), told.count(2)
+        self._counts = [0, self._many[0]]
+        self._rows = []
 
     @classmethod
     def from_lines(cls, *lines):
@@ -166,7 +170,7 @@ class Operators:
     def count_trees(self, size):
         """The number of trees of a size."""
         check_size(size)
-        return self._forests(size)[size][1]
+        return self._count(size)
 
     def each_tree(self, size):
         """Yields the trees of a size, in order."""
@@ -188,15 +192,18 @@ class Operators:
     def tree_at(self, size, number):
         """The tree with a number among those of a size."""
         check_size(size)
-        forests = self._forests(size)
-        if not is_count(number) or number >= forests[size][1]:
+        if not is_count(number) or number >= self._count(size):
             raise InvalidNumber(number)
         words = []
         awaited = 1
-        for row in reversed(forests[:size]):
-            name, number = self._name_at(row, awaited, number)
-            words.append(name)
-            awaited += self._arities[name] - 1
+        rest = number
+        for row in reversed(self._forests(size)[:size]):
+            at = 0
+            while rest >= row[awaited - 1 + self._arities[self._names[at]]]:
+                rest -= row[awaited - 1 + self._arities[self._names[at]]]
+                at += 1
+            words.append(self._names[at])
+            awaited += self._arities[self._names[at]] - 1
         return tuple(words)
 
     def number_of(self, tree):
@@ -263,28 +270,34 @@ class Operators:
             waiting.extend([at] * self._arities[word])
         return parents
 
+    def _count(self, size):
+        """The number of trees of a size: all smaller ones are counted before, and kept."""
+        none, one, two = self._many
+        counts = self._counts
+        for places in range(len(counts), size + 1):
+            # The numbers are those of a square root of a polynomial, which follow from the two before.
+            less = (one * one - 4 * none * two) * (places - 2) * counts[places - 2]
+            counts.append((one * (2 * places - 1) * counts[places - 1] - less) // (places + 1))
+        return counts[size]
+
     def _forests(self, size):
         """A list of rows: item k of row r is the number of rows of k trees with r places together.
 
-        Just those are counted that a tree of this size can end with.
+        Just those are counted that a tree of this size, or of a smaller one, can end with. They are kept; if a
+        greater size is asked for, sizes up to twice the one before are counted at once.
         """
-        arities = list(self._arities.values())
-        none, one, two = arities.count(0), arities.count(1), arities.count(2)
-        rows = [[1] + [0] * (size + 1)]
+        if len(self._rows) <= size:
+            self._rows = self._counted_rows(max(size, min(MAX_SIZE, 2 * len(self._rows) - 2)))
+        return self._rows
+
+    def _counted_rows(self, size):
+        none, one, two = self._many
+        rows = [[1, 0, 0]]
         for places in range(1, size + 1):
             below = rows[-1]
-            row = [0] * (size + 2)
             # With size - places places ahead, at most one tree more than these is awaited.
-            for many in range(1, min(places, size - places + 1) + 1):
-                row[many] = none * below[many - 1] + one * below[many] + two * below[many + 1]
-            rows.append(row)
+            most = min(places, size - places + 1)
+            shares = zip(below[:most], below[1:], below[2:])
+            row = [none * less + one * same + two * more for less, same, more in shares]
+            rows.append([0, *row, 0, 0])
         return rows
-
-    def _name_at(self, row, awaited, number):
-        """The name that the tree with a number goes on with, and its number among these."""
-        counts = [row[awaited - 1 + self._arities[name]] for name in self._names]
-        at = 0
-        while number >= counts[at]:
-            number -= counts[at]
-            at += 1
-        return self._names[at], number
