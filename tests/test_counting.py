@@ -233,8 +233,8 @@ class AskedAgainTest(TimedTest):
     def test_many_questions(self):
         # Twenty for each of many objects: counted anew at each question, they take far longer than is let.
         for at in range(1500):
-            arities = {"c": 0, "v": 0, "p": 2, "abcdefgh"[at % 2]: at % 3, "x": 1} if at % 4 else {"c": 0, "v": 0, "p": 2}
-            ops = Operators(arities)
+            more = {"abcdefgh"[at % 2]: at % 3, "x": 1} if at % 4 else {}
+            ops = Operators({"c": 0, "v": 0, "p": 2, **more})
             for size in (200, 199, 151, 90, 33):
                 many = ops.count_trees(size)
                 if many:

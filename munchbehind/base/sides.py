@@ -70,8 +70,8 @@ class Sides:
         """
         made = {name: [] for name in self.arity}
         for part in self.in_parts:
-            one, two = (*self.below[part], None, None)[:2]
-            made[self.spelled[part][0]].append((part, one, two))
+            lows = [*self.below[part], None, None]
+            made[self.spelled[part][0]].append((part, lows[0], lows[1]))
         return made
 
     def _needed(self):

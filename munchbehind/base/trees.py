@@ -274,7 +274,8 @@ class Operators:
         """The number of trees of a size: all smaller ones are counted before, and kept."""
         none, one, two = self._many
         counts = self._counts
-        for places in range(len(counts), size + 1):
+        while len(counts) <= size:
+            places = len(counts)
             # The numbers are those of a square root of a polynomial, which follow from the two before.
             less = (one * one - 4 * none * two) * (places - 2) * counts[places - 2]
             counts.append((one * (2 * places - 1) * counts[places - 1] - less) // (places + 1))
@@ -297,7 +298,7 @@ class Operators:
             below = rows[-1]
             # With size - places places ahead, at most one tree more than these is awaited.
             most = min(places, size - places + 1)
-            shares = zip(below[:most], below[1:], below[2:])
-            row = [none * less + one * same + two * more for less, same, more in shares]
+            lows, same = below[:most], below[1:]
+            row = [none * low + one * mid + two * high for low, mid, high in zip(lows, same, below[2:])]
             rows.append([0, *row, 0, 0])
         return rows

@@ -77,7 +77,7 @@ def told_rules(done):
     while rest is not None:
         rules, rest = rest
         rows.append(rules)
-    return tuple([index for rules in reversed(rows) for index in rules])
+    return tuple([index for row in reversed(rows) for index in row])
 
 
 def put_ahead(leaves, behind):

@@ -54,8 +54,7 @@ class Pairs:
         for operator, kinds in self._good_steps(useful):
             for other, part in self._others(useful):
                 moves.append((operator, self._below(useful, kinds, part), price, other))
-        moves = sorted(moves)
-        return tuple([(move[0], tuple([self._spelled(low) for low in move[1]]), *move[2:]) for move in moves])
+        return tuple([self._spelled_move(move) for move in sorted(moves)])
 
     def tree_of(self, state):
         """A tree of a state with as few places as possible."""
@@ -102,6 +101,10 @@ class Pairs:
         kind, side, other = state
         sides = self._met.numbered.spelled
         return self._met.table.spelled[kind], sides[side], sides[other]
+
+    def _spelled_move(self, move):
+        operator, states, price, other = move
+        return operator, tuple([self._spelled(state) for state in states]), price, other
 
     def _find(self):
         """Finds all useful pair states: a list of triples of numbers."""

@@ -10,7 +10,7 @@ from munchbehind.decide.ways import Powers, closing, least_mean, with_rests
 from munchbehind.errors import InvalidNumber, InvalidOperation, InvalidTree, TooMany
 
 MAX_TIMES = 10 ** 18
-MAX_BEHIND = 1000
+MAX_EXCESS = 1000
 
 
 def check_pump(book, outer, loop, inner, careful):
@@ -195,7 +195,7 @@ class Pump:
 
     def first_times(self, number):
         """The least number of times with at least this excess."""
-        if not is_count(number) or number > MAX_BEHIND:
+        if not is_count(number) or number > MAX_EXCESS:
             raise InvalidNumber(number)
         if self._rate[0] == 0:
             raise InvalidOperation("the rate is 0")
