@@ -235,6 +235,16 @@ class EachCoverTest(RefusedTest):
         first = list(islice(each_cover(WIDE, tree), 12))
         self.assertEqual(first, [cover_at(WIDE, tree, number) for number in range(12)])
 
+    def test_dead_ends_take_no_time(self):
+        # From a and from b no row that ends in v is covered, which tells only at its end.
+        book = Book.from_lines(
+            "op c 0", "op v 0", "op s 1", "goal r", "rule r 0 s a", "rule r 0 s b", "rule a 0 s a", "rule a 0 s b",
+            "rule b 0 s a", "rule b 0 s b", "rule a 0 c", "rule b 0 c", "rule r 0 v", "rule r 1 s r",
+        )
+        tree = ("s",) * 200 + ("v",)
+        self.assertEqual(list(each_cover(book, tree)), [(9,) * 200 + (8,)])
+        self.assertEqual(len(list(islice(each_cover(book, ("s",) * 200 + ("c",)), 5))), 5)
+
     def test_later_ones_are_not_made_first(self):
         tree = ("p",) * 30 + ("c",) * 31
         seen = list(islice(each_cover(WIDE, tree), 2000))

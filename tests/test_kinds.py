@@ -202,6 +202,17 @@ class KindsTest(RefusedTest):
                 self.assertEqual(Kinds(book.with_price(0, 9)).kinds, told)
                 self.assertIs(Kinds(book.with_price(0, 9)) == Kinds(book.with_price(0, 8)), False)
 
+    def test_as_few_places_as_possible_of_rows_and_combs(self):
+        # The trees of these kinds begin alike, but a row or a comb below is the least one.
+        for row, comb, right in ((5, 2, 6), (4, 3, 6), (5, 3, 7), (3, 2, 5)):
+            below = ("s " * row + "c", "p " * comb + "c " * comb + "c")
+            rules = [f"rule r 0 {words}" for words in below]
+            book = Book.from_lines("op c 0", "op p 2", "op s 1", "op u 1", "goal r", "rule r 1 u r", *rules)
+            kinds = Kinds(book)
+            part = book.parts.index(("u", "r"))
+            tree = kinds.tree_of(((part,), (part,)))
+            self.assertEqual((len(tree), tree[0], kinds.of_tree(tree)), (right, "u", ((part,), (part,))))
+
     def test_long_trees(self):
         kinds = Kinds(STEPS)
         self.assertEqual(kinds.of_tree(ROW), ((1, 2, 3, 4), (1, 2, 3, 4)))

@@ -92,6 +92,19 @@ class IsPumpTest(RefusedTest):
         self.assertIs(is_pump(LOADS, HOLE, HOLE, ("s", "v")), False)
         self.assertIs(is_pump(LOADS, HOLE, HOLE, ("s", "v"), careful=True), True)
 
+    def test_kinds_of_which_the_same_parts_are_ready(self):
+        # Nothing is covered from a, so the first rule matches, but is never ready.
+        book = Book.from_lines("op c 0", "op s 1", "goal r", "rule r 2 s s a", "rule r 1 s r", "rule r 0 c")
+        self.assertIs(is_pump(book, HOLE, ("s", "_"), ("s", "c"), careful=True), False)
+        self.assertIs(is_pump(book, HOLE, ("s", "_"), ("s", "s", "c"), careful=True), True)
+
+    def test_kinds_of_which_the_same_parts_match(self):
+        book = Book.from_lines("op c 0", "op v 0", "op s 1", "goal r", "rule r 1 s r", "rule r 0 c", "rule a 0 s s a",
+                               "rule a 0 c", "rule r 0 v")
+        self.assertIs(is_pump(book, HOLE, ("s", "_"), ("s", "s", "s", "c")), False)
+        self.assertIs(is_pump(book, HOLE, ("s", "s", "_"), ("s", "s", "s", "c")), True)
+        self.assertIs(is_pump(book, HOLE, ("s", "_"), ("s", "s", "s", "v")), True)
+
     def test_errors_in_their_order(self):
         contexts = wrong_values(InvalidTree, ("c",), None, ["_"], ("_", "_"), ())
         slots = [
@@ -220,6 +233,19 @@ class PumpTest(RefusedTest):
             self.assertEqual(pump.first_times(number), min(times for times, many in enumerate(told) if many >= number))
         self.assertEqual(pump.first_times(1000), 997)
 
+    def test_no_cheap_side_can_be_stayed_at(self):
+        # The cheap rounds lead from b to d and back, and staying at either is dear.
+        book = Book.from_lines(
+            "op c 0", "op s 1", "goal g", "rule g 0 r", "rule g 0 b", "rule r 1 s r", "rule b 0 s d", "rule d 0 s b",
+            "rule b 9 s b", "rule d 9 s d", "rule r 0 c", "rule b 0 c",
+        )
+        pump = Pump(book, ("s", "_"), ("s", "_"), ("s", "s", "c"))
+        told = [pump.excess(times) for times in range(60)]
+        self.assertEqual(told, [excess(book, ("s",) * (3 + times) + ("c",)) for times in range(60)])
+        for number in range(max(told)):
+            self.assertEqual(pump.first_times(number), min(times for times, many in enumerate(told) if many >= number))
+        self.assertEqual(pump.first_times(1000), 997)
+
     def test_numbers_in_between(self):
         # The loop is as long as half of a cheap round.
         book = Book.from_lines("op c 0", "op s 1", "goal r", "rule r 2 s r", "rule r 1 s s s r", "rule r 0 c")
@@ -344,6 +370,23 @@ class LoopsTest(RefusedTest):
             right_ones = (tuple(sides[at] for at in kept), tuple(prices[at] for at in kept))
             self.assertEqual(truth.sides(told, rest, book.goal), right_ones)
             self.assertLess(len(told), len(tree))
+
+    def test_rules_behind_the_loop_are_kept(self):
+        tree, cover = ("p", "p", "p", "v", "c", "c", "c"), (1, 1, 1, 3, 2, 2, 2)
+        right = (("p", "p", "v", "c", "c"), (1, 1, 3, 2, 2))
+        for pair in ((0, 1), (1, 2)):
+            self.assertEqual(cut_loop(ADDS, tree, cover, pair), right)
+        self.assertEqual(cut_loop(ADDS, tree, cover, (0, 2)), (THREE, (1, 3, 2)))
+        tree, cover = ("p", "p", "p", "v", "c", "c", "p", "v", "c"), (1, 1, 1, 3, 2, 2, 0, 3)
+        self.assertEqual(cut_loop(ADDS, tree, cover, (1, 2)), (("p", "p", "v", "c", "p", "v", "c"), (1, 1, 3, 2, 0, 3)))
+
+    def test_states_one_after_the_other(self):
+        tree = ("s",) * 9 + ("c",)
+        for cover in ((0, 0, 0, 0, 1, 2), (1,) * 9 + (2,), (1, 0, 0, 0, 0, 2), (1, 0, 1, 0, 1, 0, 2)):
+            states = Pairs(FREE).along(tree, cover)
+            right = [(one, low) for one in range(10) for low in range(one + 1, 10) if states[one] == states[low]]
+            self.assertEqual(loops_in(FREE, tree, cover), tuple(right))
+            self.assertGreater(len(right), 3)
 
     def test_bounded_excesses_do_not_shrink(self):
         # Cutting a loop makes the difference no less where the excess is bounded.

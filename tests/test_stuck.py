@@ -264,6 +264,9 @@ class StuckPaperTest(RefusedTest):
                 self.assertIs(is_stuck_paper(STEPS, value), False)
         self.assertIs(is_stuck_paper(STEPS, good), True)
         self.assertIs(is_stuck_paper(LOADS, ["stuck", ("s", "v")]), False)
+        for word in ("Stuck", "", "never", None, 0, True, ("stuck",), ["stuck"], {}):
+            self.assertIs(is_stuck_paper(LOADS, (word, ("s", "v"))), False)
+            self.assertIs(is_stuck_paper(STEPS, (word, good[1])), word == "never")
         self.assertIs(is_stuck_paper(LOADS, ("stuck", ("s", "v"), ())), False)
 
 

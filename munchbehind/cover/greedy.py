@@ -1,6 +1,6 @@
 """The greedy selector, and what a cover is like at each place."""
 
-from munchbehind.base.asked import check_book, check_careful, side_of
+from munchbehind.base.asked import check_careful, side_of
 from munchbehind.cover.laid import lay, tiles_of
 from munchbehind.errors import InvalidKind, Stuck
 from munchbehind.match.kinds import is_kind_form
@@ -36,7 +36,6 @@ def first_fitting(used, given, let):
 
 def pick(book, kind, nonterminal, *, careful=False):
     """The rules that the greedy selector uses for a nonterminal in a tree of a kind; None if it is stuck there."""
-    check_book(book)
     if not is_kind_form(book, kind):
         raise InvalidKind("not the form of a kind")
     side = side_of(book, nonterminal)

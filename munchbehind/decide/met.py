@@ -63,4 +63,4 @@ class Met:
         for _, kinds in self.table.steps[kind]:
             for found, low in zip(lists, kinds):
                 found[low] = True
-        return [sorted(found) for found in lists]
+        return [list(found) for found in lists]

@@ -237,7 +237,6 @@ def asked_states(book, tree, cover, careful):
     check_book(book)
     check_tree(book, tree)
     tiles_of(Laid(book, tree, None), cover)
-    check_careful(careful)
     return Pairs(book, careful=careful).along(tree, cover)
 
 

@@ -15,9 +15,7 @@ class Least:
         self._find(steps)
 
     def spelled_tree(self, node):
-        """A tree of a node with as few places as possible, None if there is no tree."""
-        if node not in self.sizes:
-            return None
+        """A tree with as few places as possible of a node that has some."""
         words = []
         waiting = [node]
         while waiting:

@@ -77,9 +77,9 @@ class KindTable:
         return found
 
     def _renumbered(self, order):
-        """The list of all steps by kinds, as pairs (operator, kinds below), ascending."""
+        """The list of all steps by kinds, as pairs (operator, kinds below)."""
         now = {old: at for at, old in enumerate(order)}
         steps = [[] for _ in order]
         for made, operator, below in self._steps:
             steps[now[made]].append((operator, tuple([now[low] for low in below])))
-        return [sorted(rows) for rows in steps]
+        return steps
