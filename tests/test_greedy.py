@@ -303,6 +303,25 @@ class MainStatementsTest(RefusedTest):
         self.assertEqual(excess(book.without_rule(2), ("c",)), 0)
 
 
+class FourBooksTest(RefusedTest):
+    def test_steps_are_never_more_than_one_behind(self):
+        told = [excess(STEPS, ("s",) * many + ("c",)) for many in range(60)]
+        self.assertEqual((set(told), told.index(1)), ({0, 1}, 6))
+
+    def test_adds_are_two_behind_at_some_sums(self):
+        for tree in made_trees(ADDS, 7):
+            ops = ADDS.operators
+            sums = [at for at, word in enumerate(tree) if word == "p" and tree[ops.children(tree, at)[1]] == "c"]
+            self.assertEqual((excess(ADDS, tree), excess(ADDS, tree, careful=True)), (2 * len(sums), 2 * len(sums)))
+
+    def test_loads_and_ring(self):
+        for many in range(1, 9):
+            rows = [("s",) * many + (last,) for last in ("c", "v")]
+            self.assertEqual([stuck_at(LOADS, tree, careful=True) for tree in rows], [None, None])
+        self.assertEqual((stuck_at(LOADS, ("s", "v")), stuck_at(LOADS, ("s", "c"))), (1, None))
+        self.assertEqual((stuck_at(RING, ("c",)), stuck_at(RING, ("c",), careful=True)), (0, 0))
+
+
 class UnchangedTest(RefusedTest):
     def test_equal_calls_return_equal_results(self):
         for book, tree in ((STEPS, SIX), (ADDS, ("p", "p", "v", "c", "c")), (LOADS, ("s", "s", "c"))):
