@@ -87,6 +87,7 @@ class Book:
         told = [" ".join(["rule", word, str(price), *pattern]) for word, price, pattern in rules]
         self._lines = (*operators.lines, f"goal {goal}", *told)
         self._sides = None
+        self._kept = {}
 
     @classmethod
     def from_lines(cls, *lines):
@@ -141,6 +142,10 @@ class Book:
         if self._sides is None:
             self._sides = Sides(self._operators.arities, self._rules, self._parts, self._nonterminals)
         return self._sides
+
+    def kept_answers(self):
+        """What was worked out of the book, for later questions: a dict that is filled by others."""
+        return self._kept
 
     def rules_of(self, nonterminal):
         """The indices of the rules of a nonterminal, ascending."""

@@ -6,22 +6,23 @@ from munchbehind.errors import InvalidKind, Stuck
 from munchbehind.match.kinds import is_kind_form
 
 
-def chosen(numbered, side, let):
+def chosen(used, below, side, let):
     """What the greedy selector uses for a nonterminal: the triple (rules, price, part); None if it is stuck.
 
-    Let is the set of the sides that a rule may lead to: of matched ones, or of ready ones for a careful selector.
+    Used and below are as in the numbered sides of a book, used in any order of the rules. Let is the set of the sides
+    that a rule may lead to: of matched ones, or of ready ones for a careful selector.
     """
     rules = ()
     price = 0
     given = (side,)
     while True:
-        found = first_fitting(numbered.used[given[-1]], given, let)
+        found = first_fitting(used[given[-1]], given, let)
         if found is None:
             return None
         index, more, target = found
         rules += (index,)
         price += more
-        if numbered.below[target] is not None:
+        if below[target] is not None:
             return rules, price, target
         given += (target,)
 
@@ -43,7 +44,7 @@ def pick(book, kind, nonterminal, *, careful=False):
     numbered = book.numbered_sides()
     parts = sum([1 << numbered.in_parts[index] for index in kind[1 if careful else 0]])
     let = numbered.with_covered(parts) if careful else parts + numbered.free
-    found = chosen(numbered, side, let)
+    found = chosen(numbered.used, numbered.below, side, let)
     return None if found is None else found[0]
 
 
@@ -54,7 +55,7 @@ def greedy_tiles(laid, careful):
     waiting = [(laid.first, 0)]
     while waiting:
         side, place = waiting.pop()
-        way = chosen(laid.numbered, side, sets[place])
+        way = chosen(laid.numbered.used, laid.numbered.below, side, sets[place])
         if way is None:
             return found, place
         found.extend([(place, index) for index in way[0]])

@@ -1,21 +1,34 @@
 """Where the greedy selector comes to in trees that have a cover from the goal."""
 
+from munchbehind.base.kept import kept_answer
 from munchbehind.cover.greedy import chosen
 from munchbehind.match.kinds import kind_table
+
+
+def work_out_met(book, careful):
+    """What is met in a book and a mode."""
+    table = kind_table(book)
+    return Met(table, table.numbered.used, table.numbered.numbers[(book.goal,)], careful)
+
+
+def met_of(book, careful):
+    """The same, worked out once for each book."""
+    return kept_answer(book, careful, work_out_met)
 
 
 class Met:
     """The met states of a book and a mode, as pairs of the numbers of a kind and a side.
 
-    Choices tells for each of them the pair of the price and the part with which the greedy selector goes on,
-    None if it is stuck.
+    Used tells the rules of each side in the order in which they are tried. Choices tells for each met state the pair
+    of the price and the part with which the greedy selector goes on, None if it is stuck.
     """
 
-    def __init__(self, book, careful):
-        self.table = kind_table(book)
-        self.numbered = self.table.numbered
-        self.goal_side = self.numbered.numbers[(book.goal,)]
-        self.lets = self.table.readies if careful else self.table.matches
+    def __init__(self, table, used, goal_side, careful):
+        self.table = table
+        self.numbered = table.numbered
+        self.used = used
+        self.goal_side = goal_side
+        self.lets = table.readies if careful else table.matches
         self.choices = {}
         self._find()
 
@@ -41,11 +54,10 @@ class Met:
         kind, side = node
         if self.numbered.below[side] is not None:
             return 0, side
-        way = chosen(self.numbered, side, self.lets[kind])
+        way = chosen(self.used, self.numbered.below, side, self.lets[kind])
         return None if way is None else way[1:]
 
     def _find(self):
-        seen = [self._kinds_below(kind) for kind in range(len(self.table.spelled))]
         waiting = [(kind, self.goal_side) for kind in self.covered_kinds()]
         while waiting:
             node = waiting.pop()
@@ -54,13 +66,5 @@ class Met:
             self.choices[node] = self.choice(node)
             if self.choices[node] is not None:
                 below = self.numbered.below[self.choices[node][1]]
-                for kinds, side in zip(seen[node[0]], below):
+                for kinds, side in zip(self.table.lows[node[0]], below):
                     waiting.extend([(kind, side) for kind in kinds])
-
-    def _kinds_below(self, kind):
-        """The lists of the kinds of the subtrees of trees of a kind, from left to right."""
-        lists = [{}, {}]
-        for _, kinds in self.table.steps[kind]:
-            for found, low in zip(lists, kinds):
-                found[low] = True
-        return [list(found) for found in lists]

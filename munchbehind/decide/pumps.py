@@ -232,6 +232,15 @@ class Pump:
             raise InvalidNumber(times)
 
 
+def pump_of(book, parts, careful):
+    """The pump of three values; None if they are none."""
+    outer, loop, inner = parts
+    try:
+        return Pump(book, outer, loop, inner, careful=careful)
+    except (InvalidTree, InvalidOperation):
+        return None
+
+
 def asked_states(book, tree, cover, careful):
     """The pair states at all places of a tree with the greedy selector's cover and the told one."""
     check_book(book)

@@ -3,7 +3,7 @@
 from munchbehind.base.asked import check_book, check_careful
 from munchbehind.cover.greedy import greedy_tiles
 from munchbehind.cover.laid import Laid
-from munchbehind.decide.met import Met
+from munchbehind.decide.met import met_of
 from munchbehind.match.kinds import is_kind_form
 from munchbehind.match.least import Least
 
@@ -12,7 +12,7 @@ def met_asked(book, careful):
     """What is met in the book and the mode that are asked for."""
     check_book(book)
     check_careful(careful)
-    return Met(book, careful)
+    return met_of(book, careful)
 
 
 def spelled_states(met):

@@ -1,9 +1,10 @@
 """Where patterns match, and the kinds of trees that follow from it."""
 
 from munchbehind.base.asked import check_book, check_place, check_tree
+from munchbehind.base.kept import kept_answer
 from munchbehind.base.patterns import ends_of, leaves_of
 from munchbehind.base.words import is_count
-from munchbehind.errors import InvalidKind, InvalidOperation, UnknownName
+from munchbehind.errors import InvalidKind, InvalidOperation, TooMany, UnknownName
 from munchbehind.match.least import Least
 from munchbehind.match.tables import KindTable
 
@@ -52,9 +53,17 @@ def is_kind_form(book, value):
     return all([index in value[0] for index in value[1]])
 
 
-def kind_table(book):
-    """The kinds of all trees of a book by numbers."""
+def work_out_kinds(book, _):
+    """The kinds of all trees of a book by numbers; they are the same in both modes."""
     return KindTable(book.numbered_sides(), MAX_KINDS)
+
+
+def kind_table(book):
+    """The kinds of all trees of a book by numbers, if they are not too many."""
+    table = kept_answer(book, None, work_out_kinds)
+    if table.is_cut_off:
+        raise TooMany(MAX_KINDS)
+    return table
 
 
 class Kinds:
