@@ -1,0 +1,1 @@
+"""Books of rules that are worked on."""
