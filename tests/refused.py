@@ -2,12 +2,14 @@
 
 from itertools import product
 
-from munchbehind.errors import InvalidNumber, NotCovered, ParseError, Stuck, TooMany, UnknownName
+from munchbehind.errors import (
+    InvalidNumber, NotCovered, NothingToUndo, ParseError, Refused, Stuck, TooMany, UnknownName,
+)
 from tests.timed import TimedTest
 
 KEPT = {
-    InvalidNumber: "value", NotCovered: "uncovered", ParseError: "number", Stuck: "place", TooMany: "limit",
-    UnknownName: "word",
+    InvalidNumber: "value", NotCovered: "uncovered", NothingToUndo: "many", ParseError: "number", Refused: "pledge",
+    Stuck: "place", TooMany: "limit", UnknownName: "word",
 }
 
 

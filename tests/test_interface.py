@@ -35,6 +35,30 @@ FUNCTIONS = {
         "is_pump": "(book, outer, loop, inner, *, careful=False)",
         "loops_in": "(book, tree, cover, *, careful=False)", "cut_loop": "(book, tree, cover, pair, *, careful=False)",
     },
+    "munchbehind.decide.papers": {
+        "paper": "(book, *, careful=False)", "is_paper": "(book, value, *, careful=False)",
+        "is_bounded": "(book, *, careful=False)", "greatest_excess": "(book, *, careful=False)",
+        "bounds": "(book, *, careful=False)", "worst_tree": "(book, *, careful=False)",
+    },
+    "munchbehind.decide.sizes": {
+        "greatest_by_sizes": "(book, size, *, careful=False)", "worst_of_size": "(book, size, *, careful=False)",
+        "least_behind": "(book, number, *, careful=False)", "excess_counts": "(book, size, *, careful=False)",
+        "count_stuck": "(book, size, *, careful=False)",
+    },
+    "munchbehind.decide.ratios": {
+        "ratio": "(book, *, careful=False)", "ratio_paper": "(book, *, careful=False)",
+        "is_ratio_paper": "(book, value, *, careful=False)",
+    },
+    "munchbehind.decide.orders": {
+        "count_orders": "(book)", "each_order": "(book)", "verdict": "(book, order, *, careful=False)",
+        "best_orders": "(book, *, careful=False)", "lead": "(book, one, other, *, careful=False)",
+        "lead_tree": "(book, one, other, *, careful=False)",
+    },
+    "munchbehind.text.texts": {
+        "write_tree": "(tree)", "read_tree": "(text)", "write_cover": "(cover)", "read_cover": "(text)",
+        "write_book": "(book)", "read_book": "(text)", "write_state": "(state)", "read_state": "(text)",
+        "write_paper": "(paper)", "read_paper": "(text)",
+    },
 }
 CLASSES = {
     "munchbehind.base.trees": {
@@ -74,6 +98,20 @@ CLASSES = {
             "first_times": "(self, number)",
         },
     },
+    "munchbehind.use.bench": {
+        "Bench": {
+            "__init__": "(self, book, *, careful=False)", "draw": "(self, line, *, at=None)", "erase": "(self, index)",
+            "move": "(self, index, to)", "demand": "(self, pledge)", "waive": "(self, pledge)",
+            "undo": "(self, *, many=1)", "redo": "(self, *, many=1)", "trial": "(self)", "during": "(self, call)",
+            "twin": "(self)",
+        },
+    },
+    "munchbehind.text.shell": {
+        "Shell": {
+            "__init__": "(self, text, *, careful=False)", "answer": "(self, line)", "__call__": "(self, line)",
+            "bench": "(self)",
+        },
+    },
 }
 PROPERTIES = {
     ("munchbehind.base.trees", "Operators"): ("arities", "names", "constants", "lines"),
@@ -83,6 +121,7 @@ PROPERTIES = {
     ("munchbehind.decide.pumps", "Pump"): (
         "book", "outer", "loop", "inner", "is_careful", "side", "loop_prices", "rate",
     ),
+    ("munchbehind.use.bench", "Bench"): ("book", "is_careful", "last", "pledges"),
 }
 OPERATIONS = {
     ("munchbehind.base.trees", "Operators"): ("__len__", "__contains__", "__iter__", "__eq__", "__str__"),
@@ -90,6 +129,8 @@ OPERATIONS = {
     ("munchbehind.match.kinds", "Kinds"): ("__len__", "__contains__", "__iter__", "__eq__", "__str__"),
     ("munchbehind.decide.pairs", "Pairs"): ("__len__", "__contains__", "__iter__", "__eq__", "__str__"),
     ("munchbehind.decide.pumps", "Pump"): ("__eq__", "__str__"),
+    ("munchbehind.use.bench", "Bench"): ("__len__", "__contains__", "__iter__", "__eq__", "__str__"),
+    ("munchbehind.text.shell", "Shell"): ("__len__", "__call__"),
 }
 CONSTANTS = {
     "munchbehind.base.words": {"MAX_LETTERS": 8, "MAX_FIGURES": 60},
@@ -98,6 +139,9 @@ CONSTANTS = {
     "munchbehind.match.kinds": {"MAX_KINDS": 60},
     "munchbehind.decide.pairs": {"MAX_STATES": 600},
     "munchbehind.decide.pumps": {"MAX_TIMES": 10 ** 18},
+    "munchbehind.decide.sizes": {"MAX_ASKED": 40, "MAX_BEHIND": 50, "MAX_LISTED": 20000},
+    "munchbehind.decide.orders": {"MAX_ORDERS": 720},
+    "munchbehind.use.bench": {"MAX_PLEDGES": 10},
 }
 
 

@@ -2,6 +2,7 @@
 
 import ast
 import builtins
+import re
 import unittest
 from pathlib import Path
 
@@ -24,7 +25,7 @@ METHODS = set(
     "append clear copy count endswith extend find get index insert isalnum isalpha isdigit islower isspace "
     "isupper items join keys ljust lower lstrip partition pop remove replace reverse rfind rjust rpartition "
     "rsplit rstrip setdefault split splitlines startswith strip update upper values zfill bit_length add "
-    "discard sort isascii isdecimal removeprefix removesuffix".split()
+    "discard sort isascii isdecimal removeprefix removesuffix popleft".split()
 )
 BARRED_NODES = (
     ast.AsyncFunctionDef, ast.AsyncFor, ast.AsyncWith, ast.Await, ast.Global, ast.Import, ast.GeneratorExp, ast.Div,
@@ -149,6 +150,66 @@ class LanguageTest(unittest.TestCase):
             with self.subTest(str(path.relative_to(PACKAGE))):
                 called = {node.func.attr for node in nodes(path, ast.Call) if isinstance(node.func, ast.Attribute)}
                 self.assertEqual(called - own - METHODS, set())
+
+    def test_locals_have_no_names_of_imports_and_classes(self):
+        for path in FILES:
+            with self.subTest(str(path.relative_to(PACKAGE))):
+                barred = {alias.name for node in nodes(path, ast.ImportFrom) for alias in node.names}
+                barred |= {node.name for node in nodes(path, ast.ClassDef)}
+                names = {node.arg for node in nodes(path, ast.arg)}
+                names |= {node.id for node in nodes(path, ast.Name) if not isinstance(node.ctx, ast.Load)}
+                names |= {node.name for node in nodes(path, ast.ExceptHandler)}
+                self.assertEqual(names & barred, set())
+
+    def test_names_of_methods_and_attributes(self):
+        methods, decorated, attributes = set(), set(), set()
+        for path in FILES:
+            for made in nodes(path, ast.ClassDef):
+                own = [part for part in made.body if isinstance(part, ast.FunctionDef)]
+                stored = {
+                    node.attr for node in ast.walk(made)
+                    if isinstance(node, ast.Attribute) and not isinstance(node.ctx, ast.Load)
+                }
+                self.assertEqual({part.name for part in own} & stored, set())
+                methods |= {part.name for part in own}
+                decorated |= {part.name for part in own if part.decorator_list}
+                attributes |= stored
+        self.assertEqual(decorated & attributes, set())
+        for path in FILES:
+            for node in nodes(path, ast.Call):
+                if isinstance(node.func, ast.Attribute):
+                    self.assertNotIn(node.func.attr, attributes - methods)
+
+    def test_calls(self):
+        for path in FILES:
+            with self.subTest(str(path.relative_to(PACKAGE))):
+                for node in nodes(path, ast.Call):
+                    self.assertNotIsInstance(node.func, (ast.Call, ast.Subscript, ast.Lambda))
+                    for part in node.args:
+                        if isinstance(part, ast.Starred):
+                            self.assertIsInstance(part.value, (ast.Name, ast.Attribute))
+                for node in nodes(path, ast.Compare):
+                    for operation, other in zip(node.ops, node.comparators):
+                        if isinstance(operation, (ast.Is, ast.IsNot)):
+                            self.assertIn(ast.unparse(other), ("None", "True", "False"))
+
+    def test_kept_iterators(self):
+        generators = {
+            node.name for path in FILES for node in nodes(path, ast.FunctionDef)
+            if any(isinstance(part, ast.Yield) for part in ast.walk(node))
+        }
+        for path in FILES:
+            with self.subTest(str(path.relative_to(PACKAGE))):
+                for node in nodes(path, ast.Assign):
+                    told = ast.unparse(node.value).split("(")[0]
+                    self.assertNotIn(told, {"zip", "enumerate", "reversed", "map", "iter", *generators})
+
+    def test_words(self):
+        barred = ("type", "typing", "enum", "Protocol", "Generic", "ABC", "_wall", "_WallAttr")
+        for path in FILES:
+            with self.subTest(str(path.relative_to(PACKAGE))):
+                words = set(re.findall(r"\w+", text_of(path)))
+                self.assertEqual(words & set(barred), set())
 
 
 if __name__ == "__main__":

@@ -8,6 +8,8 @@ from munchbehind.decide.pairs import Pairs
 from munchbehind.decide.pumps import Pump
 from munchbehind.errors import InvalidNumber, ParseError
 from munchbehind.match.kinds import Kinds
+from munchbehind.text.shell import Shell
+from munchbehind.use.bench import Bench
 
 INTEGERS = (0, 1, 2, -1, -7, 8, 199, 200, 201, 5000, 10 ** 60 - 1, 1 - 10 ** 60)
 LONG_INTEGERS = (10 ** 60, -(10 ** 60), 10 ** 99, 1 - 10 ** 100)
@@ -36,7 +38,7 @@ def objects():
     book = Book.from_lines("op c 0", "op s 1", "goal r", "rule r 1 s r", "rule r 0 c")
     return [
         Operators({"c": 0}), Operators({"c": 0, "p": 2, "s": 1}), ParseError(0), InvalidNumber(None), book, Kinds(book),
-        Pairs(book), Pump(book, ("_",), ("s", "_"), ("s", "c")),
+        Pairs(book), Pump(book, ("_",), ("s", "_"), ("s", "c")), Bench(book), Shell("\n".join(book.lines)),
     ]
 
 
