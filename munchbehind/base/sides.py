@@ -107,16 +107,15 @@ class Sides:
                 whole += side
         return whole
 
-    def sets_at(self, tree, ends, is_ready):
-        """The list of the sets at all places of a tree: of ready sides, or of matched ones."""
+    def ready_at(self, tree, ends):
+        """The list of the sets of the sides from which there are covers, at all places of a tree."""
         found = [0] * len(tree)
         for place in range(len(tree) - 1, -1, -1):
             operator = tree[place]
             arity = self.arity[operator]
             left = found[place + 1] if arity > 0 else ANY
             right = found[ends[place + 1]] if arity > 1 else ANY
-            made = self.ready(operator, left, right) if is_ready else self.matched(operator, left, right)
-            found[place] = made
+            found[place] = self.ready(operator, left, right)
         return found
 
     def _parts(self, operator, left, right):

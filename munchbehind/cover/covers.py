@@ -2,48 +2,39 @@
 
 from munchbehind.base.asked import check_book, side_of
 from munchbehind.base.words import is_count
-from munchbehind.cover.laid import lay, tiles_of
+from munchbehind.cover.alike import asked_prices
+from munchbehind.cover.laid import asked_side, lay
+from munchbehind.cover.walks import asked_cheap_walk, asked_walk, told_walk
 from munchbehind.errors import InvalidNumber, NotCovered
 
 
 def is_cover(book, tree, value, *, start=None):
     """Whether the value is a cover of the tree."""
-    return lay(book, tree, start).tiles(value) is not None
+    side = asked_side(book, tree, start, False)
+    return told_walk(book.numbered_sides(), tree, side, value) is not None
 
 
 def cover_price(book, tree, cover, *, start=None):
     """The price of a cover."""
-    laid = lay(book, tree, start)
-    return laid.price(tiles_of(laid, cover))
+    return sum(asked_walk(book, tree, cover, start).paid)
 
 
 def tiles(book, tree, cover, *, start=None):
     """The pairs (place, index of the rule) of a cover, in its order."""
-    return tuple(tiles_of(lay(book, tree, start), cover))
+    return asked_walk(book, tree, cover, start).tiles()
 
 
 def cheapest(book, tree, *, start=None):
     """A cover with the least price."""
-    laid = lay(book, tree, start)
-    rows = laid.price_rows()
-    if laid.first not in rows[0]:
+    walk = asked_cheap_walk(book, tree, start)
+    if walk.stuck is not None:
         raise NotCovered(tree)
-    cover = []
-    waiting = [(laid.first, 0)]
-    while waiting:
-        side, place = waiting.pop()
-        row = rows[place]
-        ways = [(row[part] + price, rules, part) for rules, price, part in laid.numbered.least[side] if part in row]
-        _, rules, part = min(ways)
-        cover.extend(rules)
-        waiting.extend(laid.leaves(part, place)[::-1])
-    return tuple(cover)
+    return walk.cover()
 
 
 def cheapest_price(book, tree, *, start=None):
     """The least price of a cover; None if there is none."""
-    laid = lay(book, tree, start)
-    return laid.price_rows()[0].get(laid.first)
+    return asked_prices(book, tree, start)[0]
 
 
 def count_covers(book, tree, *, start=None):
@@ -55,7 +46,7 @@ def count_covers(book, tree, *, start=None):
 def each_cover(book, tree, *, start=None):
     """Yields all covers, ascending."""
     laid = lay(book, tree, start)
-    ready = laid.sets(True)
+    ready = laid.ready_sides()
     # What is done and what is to be done are rows of pairs, each with the next one in it.
     waiting = [(None, ((laid.first, 0), None))]
     while waiting:
@@ -117,28 +108,21 @@ def way_at(ways, row, number):
 
 def number_of_cover(book, tree, cover, *, start=None):
     """The number of a cover among all covers, ascending."""
+    walk = asked_walk(book, tree, cover, start)
     laid = lay(book, tree, start)
-    found = tiles_of(laid, cover)
     rows = laid.count_rows()
     numbers = []
-    for place, rules in reversed(rules_by_places(found)):
-        part = laid.numbered.ruled[rules[-1]][2]
-        number = 0
-        for low, at in laid.leaves(part, place):
-            number = number * rows[at][low] + numbers.pop()
-        for told, _, other in laid.numbered.ways[laid.numbered.ruled[rules[0]][0]]:
-            if told < rules:
-                number += rows[place].get(other, 0)
-        numbers.append(number)
+    for place in range(len(tree) - 1, -1, -1):
+        rules = walk.used[place]
+        if rules:
+            number = 0
+            for low, at in laid.leaves(laid.numbered.ruled[rules[-1]][2], place):
+                number = number * rows[at][low] + numbers.pop()
+            for told, _, other in laid.numbered.ways[walk.met[place]]:
+                if told < rules:
+                    number += rows[place].get(other, 0)
+            numbers.append(number)
     return numbers[0]
-
-
-def rules_by_places(found):
-    """The list of the pairs of a place and the rules that are used there, in the order of the cover."""
-    rows = {}
-    for place, index in found:
-        rows[place] = rows.get(place, ()) + (index,)
-    return [(place, rows[place]) for place in rows]
 
 
 def chain_price(book, one, other):

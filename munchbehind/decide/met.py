@@ -1,7 +1,7 @@
 """Where the greedy selector comes to in trees that have a cover from the goal."""
 
 from munchbehind.base.kept import kept_answer
-from munchbehind.cover.greedy import chosen
+from munchbehind.cover.choice import chosen
 from munchbehind.match.kinds import kind_table
 
 

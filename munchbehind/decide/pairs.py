@@ -1,9 +1,9 @@
 """Pair states: where the greedy selector and another cover are at the same place."""
 
-from munchbehind.base.asked import check_book, check_careful, check_tree
+from munchbehind.base.asked import check_book, check_careful
 from munchbehind.base.kept import kept_answer
-from munchbehind.cover.greedy import greedy_tiles
-from munchbehind.cover.laid import Laid, tiles_of
+from munchbehind.base.patterns import ends_of
+from munchbehind.cover.walks import asked_greedy_walk, asked_walk
 from munchbehind.decide.met import met_of
 from munchbehind.decide.useful import Useful
 from munchbehind.errors import InvalidState, Stuck
@@ -66,14 +66,13 @@ class Pairs:
 
     def along(self, tree, cover):
         """The pair states at all places of a tree, with the greedy selector's cover and another one."""
-        check_tree(self._book, tree)
-        laid = Laid(self._book, tree, None)
-        others = laid.sides(tiles_of(laid, cover))
-        found, place = greedy_tiles(laid, self._careful)
-        if place is not None:
-            raise Stuck(place)
-        kinds = self._useful.met.table.kinds_at(tree, laid.ends)
-        return tuple([self._useful.spelled_state(state) for state in zip(kinds, laid.sides(found), others)])
+        told = asked_walk(self._book, tree, cover, None)
+        walk = asked_greedy_walk(self._book, tree, None, self._careful)
+        if walk.stuck is not None:
+            raise Stuck(walk.stuck)
+        table = self._useful.met.table
+        kinds = table.kinds_at(tree, ends_of(tree, table.numbered.arity))
+        return tuple([self._useful.spelled_state(state) for state in zip(kinds, walk.met, told.met)])
 
     def __len__(self):
         return len(self._useful.spelled)

@@ -62,7 +62,7 @@ def listed_prices(book, size, careful):
     if many > MAX_LISTED:
         raise TooMany(MAX_LISTED)
     # Where there are trees, there are no more of a smaller size.
-    return Counted(useful.met, size).prices() if many > 0 else []
+    return Counted(book.numbered_sides(), careful, size).prices(useful.met.goal_side) if many > 0 else []
 
 
 def excess_counts(book, size, *, careful=False):

@@ -1,8 +1,8 @@
 """Whether the greedy selector is ever stuck in a tree that has a cover."""
 
 from munchbehind.base.asked import check_book, check_careful
-from munchbehind.cover.greedy import greedy_tiles
-from munchbehind.cover.laid import Laid
+from munchbehind.base.kept import kept_answer
+from munchbehind.cover.alike import asked_prices
 from munchbehind.decide.met import met_of
 from munchbehind.match.kinds import is_kind_form
 from munchbehind.match.least import Least
@@ -15,15 +15,17 @@ def met_asked(book, careful):
     return met_of(book, careful)
 
 
-def spelled_states(met):
+def work_out_states(book, careful):
     """The ascending tuple of all met states."""
+    met = met_of(book, careful)
     kinds, sides = met.table.spelled, met.numbered.spelled
     return tuple([(kinds[kind], sides[side]) for kind, side in sorted(met.choices)])
 
 
 def met_states(book, *, careful=False):
     """All met states, ascending."""
-    return spelled_states(met_asked(book, careful))
+    met_asked(book, careful)
+    return kept_answer(book, careful, work_out_states)
 
 
 def is_met_never_stuck(met):
@@ -55,8 +57,9 @@ def stuck_steps(met):
     return steps
 
 
-def least_stuck_tree(met):
+def work_out_stuck_tree(book, careful):
     """A tree with as few places as possible that has a cover, and in which the greedy selector is stuck, or None."""
+    met = met_of(book, careful)
     if is_met_never_stuck(met):
         return None
     least = Least(stuck_steps(met))
@@ -67,14 +70,14 @@ def least_stuck_tree(met):
 
 def stuck_tree(book, *, careful=False):
     """A tree with as few places as possible that has a cover, and in which the greedy selector is stuck, or None."""
-    return least_stuck_tree(met_asked(book, careful))
+    met_asked(book, careful)
+    return kept_answer(book, careful, work_out_stuck_tree)
 
 
 def stuck_paper(book, *, careful=False):
     """A paper about being stuck, the first form with just the met states."""
-    met = met_asked(book, careful)
-    tree = least_stuck_tree(met)
-    return ("never", spelled_states(met)) if tree is None else ("stuck", tree)
+    tree = stuck_tree(book, careful=careful)
+    return ("never", met_states(book, careful=careful)) if tree is None else ("stuck", tree)
 
 
 def is_stuck_paper(book, value, *, careful=False):
@@ -91,8 +94,8 @@ def is_stuck_in(book, tree, careful):
     """Whether the value is a tree that has a cover, and in which the greedy selector is stuck."""
     if not book.operators.is_tree(tree):
         return False
-    laid = Laid(book, tree, None)
-    return bool(laid.sets(True)[0] >> laid.first & 1) and greedy_tiles(laid, careful)[1] is not None
+    least, price = asked_prices(book, tree, None, careful)
+    return least is not None and price is None
 
 
 def are_never_stuck(book, met, value):

@@ -66,6 +66,14 @@ def kind_table(book):
     return table
 
 
+def work_out_least(book, _):
+    """The least trees of all kinds of a book."""
+    steps = []
+    for kind, rows in enumerate(kind_table(book).steps):
+        steps.extend([(kind, operator, below) for operator, below in rows])
+    return Least(steps)
+
+
 class Kinds:
     """The kinds of all trees of a book. They never change."""
 
@@ -74,7 +82,6 @@ class Kinds:
         self._book = book
         self._table = kind_table(book)
         self._kinds = tuple(self._table.spelled)
-        self._least = None
 
     @property
     def book(self):
@@ -109,9 +116,7 @@ class Kinds:
     def tree_of(self, kind):
         """A tree of a kind with as few places as possible."""
         number = self._number(kind)
-        if self._least is None:
-            self._least = Least([(made, *step) for made, steps in enumerate(self._table.steps) for step in steps])
-        return self._least.spelled_tree(number)
+        return kept_answer(self._book, None, work_out_least).spelled_tree(number)
 
     def __len__(self):
         return len(self._kinds)
