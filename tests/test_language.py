@@ -193,6 +193,16 @@ class LanguageTest(unittest.TestCase):
                         if isinstance(operation, (ast.Is, ast.IsNot)):
                             self.assertIn(ast.unparse(other), ("None", "True", "False"))
 
+    def test_comparing_and_showing_assigns_nothing(self):
+        for path in FILES:
+            with self.subTest(str(path.relative_to(PACKAGE))):
+                for made in nodes(path, ast.FunctionDef):
+                    if made.name in ("__eq__", "__len__", "__str__", "__repr__"):
+                        barred = (ast.Assign, ast.AugAssign, ast.AnnAssign, ast.NamedExpr, ast.Delete)
+                        self.assertEqual([node for node in ast.walk(made) if isinstance(node, barred)], [])
+                    if made.name == "__init__":
+                        self.assertEqual([node for node in ast.walk(made) if isinstance(node, ast.Return)], [])
+
     def test_kept_iterators(self):
         generators = {
             node.name for path in FILES for node in nodes(path, ast.FunctionDef)

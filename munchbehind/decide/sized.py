@@ -3,6 +3,12 @@
 from munchbehind.decide.shown import Shown
 
 
+def gain_of(made):
+    """The difference of both prices in the tree that a step makes, as a pair of the step and the shown trees below."""
+    step, lows = made
+    return step[2] - step[3] + sum([shown.gain for shown in lows])
+
+
 def best_of(trees):
     """The one with the greatest difference of some shown trees."""
     return max(trees, key=lambda shown: shown.gain)
@@ -52,7 +58,7 @@ class Sized:
                     found.append((step, [low]))
             found.extend([(step, joined[at]) for step, at in twos if joined[at] is not None])
             if found:
-                step, lows = max(found, key=lambda told: told[0][2] - told[0][3] + sum([low.gain for low in told[1]]))
+                step, lows = max(found, key=gain_of)
                 self._best[node][size] = Shown(node, step, lows)
         for (_, nodes), at in self._pairs.items():
             rights = [self._best[node][size] for node in nodes if size in self._best[node]]
@@ -116,7 +122,7 @@ class Reached:
     def _wait_for(self, node, step, lows):
         """Awaits a tree, if it is better than those of its node with as many places or fewer."""
         places = 1 + sum([low.places for low in lows])
-        gain = step[2] - step[3] + sum([low.gain for low in lows])
+        gain = gain_of((step, lows))
         if self._met[node] and self._met[node][-1].gain >= gain:
             return
         row = self._waiting.setdefault(places, {})

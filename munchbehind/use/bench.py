@@ -65,6 +65,11 @@ class Moment:
         self.present = done[-1]
         self.listed = self.present.rulebook.lines
 
+    def is_like(self, other):
+        """Whether the book and the pledges are the same at another moment."""
+        mine, others = self.present, other.present
+        return mine.rulebook == others.rulebook and mine.promised == others.promised
+
 
 class Held:
     """A moment that is held for the end of a block, and what is held for blocks around it."""
@@ -192,10 +197,7 @@ class Bench:
         return iter(self._now.listed)
 
     def __eq__(self, other):
-        if not isinstance(other, Bench) or self._careful != other._careful:
-            return False
-        mine, others = self._now.present, other._now.present
-        return mine.rulebook == others.rulebook and mine.promised == others.promised
+        return isinstance(other, Bench) and self._careful == other._careful and self._now.is_like(other._now)
 
     def __str__(self):
         return f"bench with {len(self._now.present.rulebook)} rules, {len(self._now.present.promised)} pledges"
