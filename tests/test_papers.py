@@ -8,6 +8,7 @@ from munchbehind.cover.greedy import excess
 from munchbehind.decide.pairs import Pairs
 from munchbehind.decide.papers import bounds, greatest_excess, is_bounded, is_paper, paper, worst_tree
 from munchbehind.decide.pumps import Pump, is_pump
+from munchbehind.decide.ratios import is_ratio_paper, ratio, ratio_paper
 from munchbehind.errors import InvalidBook, InvalidOperation, TooMany
 from tests.deciding import (
     FREE, HOLE, MODES, NO_RULES, NO_TREES, PILED, SAMPLES, SIX, all_pairs, excesses, greatest_sums, keeps, loop_sums,
@@ -98,6 +99,18 @@ class PaperTest(RefusedTest):
         self.assertEqual((told[0], is_paper(book, told)), ("behind", True))
         self.assertEqual(told[2], ("p", "s", "s", "c", "s", "s", "s", "s", "_"))
         self.assertEqual(Pump(book, *told[1:]).rate, (3, 1))
+
+    def test_small_trees_beside_the_loop(self):
+        # With the worst trees at all three places the loop would have more than 5000 places.
+        rules = [f"rule {high} 0 p p {low} {low} p {low} {low}" for low, high in zip("fedg", "edgb")]
+        book = Book.from_lines("op c 0", "op s 1", "op p 2", "goal r", "rule r 0 p b p b p b r", "rule r 0 c",
+                               "rule f 1 s s s s s c", "rule f 0 s f", "rule f 0 c", *rules)
+        told = paper(book)
+        self.assertEqual((told[0], is_paper(book, told), ratio(book)), ("behind", True, None))
+        self.assertLess(max(map(len, told[1:])), 3000)
+        told = ratio_paper(book)
+        self.assertEqual((told[0], is_ratio_paper(book, told)), ("free", True))
+        self.assertLess(max(map(len, told[1:])), 3000)
 
     def test_great_trees(self):
         book = piled_high("s s c")

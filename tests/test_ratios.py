@@ -126,6 +126,15 @@ class RatioTest(RefusedTest):
         self.assertEqual((told[:3], is_ratio_paper(book, told)), (("ratio", 1025, 1), True))
         self.assertTrue(all(len(part) <= 5000 for part in told[4:]))
 
+    def test_contexts_of_few_places(self):
+        # The loop needs three great trees beside it, which together have hardly less than 5000 places.
+        rules = ["rule e 0 p p f f p f f", "rule d 0 p p e e p e e", "rule g 0 p p d d p d d", "rule b 0 p p g g p g d"]
+        book = Book.from_lines("op c 0", "op s 1", "op p 2", "goal r", "rule r 1 p b p b p b r", "rule r 0 c",
+                               "rule f 1 s s s s s s c", "rule f 0 s f", "rule f 0 c", *rules)
+        told = ratio_paper(book)
+        self.assertEqual((told[:3], len(told[5])), (("ratio", 625, 1), 4993))
+        self.assertIs(is_ratio_paper(book, told), True)
+
     def test_prices_times_a_number(self):
         for book in SAMPLES:
             most = max([rule[1] for rule in book.rules], default=9)

@@ -276,7 +276,8 @@ class ErrorWordTest(RefusedTest):
                     self.assertEqual(shell(line), word)
         self.assertEqual((len(shell), shell.bench() == Bench(STEPS)), (0, True))
         self.assertEqual((shell_of(ADDS)("worst"), shell_of(FREE)("worst")), ("operation", "operation"))
-        self.assertEqual(shell_of(NO_RULES)("cheapest c"), "not covered")
+        bare = shell_of(NO_RULES)
+        self.assertEqual((bare("cheapest c"), len(bare), bare("covers c"), len(bare)), ("not covered", 0, "0", 1))
         shell = shell_of(piled_high("s s s c"))
         self.assertEqual([shell("worst"), shell("least 0"), shell("orders"), len(shell)],
                          ["many 5000", "many 40", "never stuck; 0; 1 0 2 3 4 5 6 7", 1])
@@ -303,7 +304,7 @@ class ErrorWordTest(RefusedTest):
                "demand ", "demand never", "demand never  stuck", "demand never stuck ", "demand within", "demand within -1",
                "demand within 01", "demand within 1 1", "demand ratio 1", "demand ratio 1/1", "demand ratio 1 1 1",
                "demand greedy", "demand greedy 1", "demand greedy s c", "demand greedy  s c", "demand greedy None s c",
-               "demand greedy 1 S", "demand greedy 1 ", "demand cheapest -1 c", "demand cheapest nothing c", "waive",
+               "demand greedy 1 S", "demand greedy 1 ", "demand dearest 1 c", "demand cheapest -1 c", "demand cheapest nothing c", "waive",
                "waive x", "waive within", "undo 1", "undo ", "redo 1", "is", "is behind", "is behind ", "is behind _ | _",
                "is behind _ | _ | c | c", "is behind _ | _ |c", "is behind _ |  | c", "is  behind _ | _ | c",
                "is within _ | _ | c", "is behind _ | _ | C", "greedy", "greedy ", "greedy  s c", "greedy s  c", "greedy S",

@@ -14,7 +14,7 @@ class Doubles:
     def __init__(self, one, other, most):
         self._one = one
         self._other = other
-        self._least = Least([(state, step[0], step[1]) for state, step in self._all_steps()])
+        self._covered = Least([(state, step[0], step[1]) for state, step in self._all_steps()])
         found = sorted(self._reached(most))
         numbers = {state: at for at, state in enumerate(found)}
         self.steps = []
@@ -59,7 +59,7 @@ class Doubles:
     def _reached(self, most):
         """The list of the states that both selectors come to in trees that both cover."""
         found = {}
-        waiting = [state for state in self._first_states() if state in self._least.sizes]
+        waiting = [state for state in self._first_states() if state in self._covered.sizes]
         while waiting:
             state = waiting.pop()
             if state in found:
@@ -68,6 +68,6 @@ class Doubles:
                 raise TooMany(most)
             found[state] = True
             for step in self._steps_of(state):
-                if all([low in self._least.sizes for low in step[1]]):
+                if all([low in self._covered.sizes for low in step[1]]):
                     waiting.extend(step[1])
         return list(found)
