@@ -164,9 +164,11 @@ class Alike:
         return self._steps_down[key]
 
     def _led_down(self, row, other, on, side):
+        """The same, worked out of the least prices at the root and beside."""
         below = self.numbered.below
+        ways = [((), 0, side)] if below[side] is not None else self.numbered.least[side]
         found = {}
-        for _, price, part in [((), 0, side)] if below[side] is not None else self.numbered.least[side]:
+        for _, price, part in ways:
             if part in row:
                 lows = below[part]
                 more = price + (other[lows[1 - on]] if len(lows) == 2 else 0)
